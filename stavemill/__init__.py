@@ -1,0 +1,1 @@
+"""Stavemill: notes as they are played made into a written page, and back."""
