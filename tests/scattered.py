@@ -1,4 +1,4 @@
-"""Bars for the tests, scattered by plain counting, so that they are the same at each run."""
+"""Bars and notes for the tests, scattered by plain counting, so that they are the same at each run."""
 
 VALUES = (1, 2, 3, 4, 6, 7, 8, 12, 14, 16, 24, 28, 32, 48, 56, 64, 96, 112)
 
@@ -92,3 +92,64 @@ def spoilt(bars):
             row.append(None)
         bar.append(None)
     bars.append(None)
+
+
+def spoilt_page(told):
+    """Every list of a page changed."""
+    spoilt(told[5])
+    for row in (told[1], told[3], told[4]):
+        row.clear()
+
+
+def together(notes, tick):
+    """How many chords sound at a tick."""
+    return len({(start, length) for start, length, pitch in notes if start <= tick < start + length})
+
+
+def fits(notes, note):
+    """Whether a note can stand beside others: none of its pitch overlaps it, nowhere more than 8 chords sound."""
+    for start, length, pitch in notes:
+        if pitch == note[2] and start < note[0] + note[1] and note[0] < start + length:
+            return False
+    longer = notes + [note]
+    return all(together(longer, start) <= 8 for start, length, pitch in longer)
+
+
+def scattered_notes(dice):
+    """Notes, in any order: chords and single ones, some far, some near to each other, no more than may be."""
+    last = dice.pick((0, 30, 200, 1000))
+    longest = dice.pick((8, 40, 400))
+    low = dice.below(100)
+    high = low + dice.pick((5, 28, 128 - low))
+    notes = []
+    for _ in range(dice.pick((1, 3, 10, 30, 60))):
+        start = dice.below(last + 1)
+        length = 1 + dice.below(longest)
+        if notes and dice.below(3) == 0:
+            start, length = dice.pick(notes)[:2]
+        note = (start, length, min(low + dice.below(high - low), 127))
+        if fits(notes, note):
+            notes.append(note)
+    return notes
+
+
+def scattered_meter(dice):
+    """A meter of one to five tuples."""
+    meter = []
+    bar = 0
+    while len(meter) < 1 + dice.below(5):
+        top = 1 + dice.below(24)
+        unit = dice.pick((1, 2, 4, 8, 16, 32, 64))
+        if 8 <= top * unit <= 512:
+            meter.append((bar, top, unit))
+            bar += 1 + dice.below(dice.pick((1, 4, 200)))
+    return meter
+
+
+def scattered_cases(many):
+    """Tuples (notes, key, meter) of which each can be made a page in a room of 5000."""
+    told = []
+    for seed in range(many):
+        dice = Dice(1000 + 7 * seed)
+        told.append((scattered_notes(dice), dice.below(15) - 7, scattered_meter(dice)))
+    return told
